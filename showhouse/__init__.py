@@ -1,0 +1,1 @@
+"""Showhouse: an environment for equational reasoning, in miniature."""
