@@ -1,4 +1,4 @@
-"""Names and terms, as far as no world is needed to tell what they are."""
+"""Names, numbers and terms, as far as no world is needed to tell what they are."""
 
 MOST_LETTERS = 8
 MOST_NODES = 60
@@ -13,6 +13,11 @@ def is_name(value):
         and value.isalpha()
         and value.islower()
     )
+
+
+def is_number(value, most):
+    """Tell whether the value is an integer from 0 to `most`."""
+    return isinstance(value, int) and not isinstance(value, bool) and 0 <= value <= most
 
 
 def _is_hole_pair(value):
@@ -72,3 +77,44 @@ def term_kind(term, heads, holes):
     takes, gives = heads[term[1]]
     kinds = [term_kind(part, heads, holes) for part in term[2]]
     return gives if kinds == list(takes) else None
+
+
+def node_count(term):
+    """Return how many holes and heads a term has."""
+    return len(subterms(term))
+
+
+def is_big(term):
+    """Tell whether what was put together from terms has too many holes and heads to be a term."""
+    return node_count(term) > MOST_NODES
+
+
+def filled(term, bindings):
+    """Return the term with terms in place of the holes of these names, all at once."""
+    if is_hole(term):
+        return bindings.get(term[1], term)
+    return ("of", term[1], tuple([filled(part, bindings) for part in term[2]]))
+
+
+def filled_pair(pair, bindings):
+    """Return the pair of terms with terms in place of the holes of these names."""
+    left, right = pair
+    return (filled(left, bindings), filled(right, bindings))
+
+
+def part_at(term, place):
+    """Return the term at a place, or None if the place is not in the term."""
+    for at in place:
+        if is_hole(term) or at >= len(term[2]):
+            return None
+        term = term[2][at]
+    return term
+
+
+def replaced_at(term, place, part):
+    """Return the term with another term at one of its places."""
+    if not place:
+        return part
+    parts = list(term[2])
+    parts[place[0]] = replaced_at(parts[place[0]], place[1:], part)
+    return ("of", term[1], tuple(parts))

@@ -51,6 +51,8 @@ class World:
         self._heads = {}
         # The names of holes that no head may take any more.
         self._hole_names = {}
+        # Pairs of a word and a name; the dicts do not tell how kinds, operators and sayings alternate.
+        self._parts = []
 
     def _grown(self):
         made = World()
@@ -59,6 +61,7 @@ class World:
         made._sayings = dict(self._sayings)
         made._heads = dict(self._heads)
         made._hole_names = dict(self._hole_names)
+        made._parts = list(self._parts)
         return made
 
     def _may_be_heads(self, names):
@@ -94,6 +97,7 @@ class World:
         made._kinds[name] = tuple(builders)
         for builder, takes in builders:
             made._heads[builder] = (takes, name)
+        made._parts.append(("kind", name))
         return made
 
     def with_operator(self, name, takes, gives, rows):
@@ -111,24 +115,32 @@ class World:
         for left, right in rows:
             for hole, kind in row_holes(left, takes, self._heads):
                 made._hole_names[hole] = True
+        made._parts.append(("operator", name))
         return made
+
+    def fits(self, saying):
+        """Tell whether this is a saying of this world, whatever its name."""
+        if not isinstance(saying, Saying):
+            return False
+        holes = saying.holes()
+        equations = saying.givens() + [(saying.left(), saying.right())]
+        return self._are_holes(holes) and all([
+            self._is_equation(left, right, holes) for left, right in equations
+        ])
 
     def with_saying(self, saying):
         """Return a new world with one more saying."""
-        if not isinstance(saying, Saying) or saying.name() in self._sayings:
+        if not self.fits(saying):
+            raise BadSaying("the holes have kinds of the world, and the two sides one kind")
+        if saying.name() in self._sayings:
             raise BadSaying("a saying has a new name")
         if len(self._sayings) == MOST_SAYINGS:
             raise BadSaying("a world has at most 40 sayings")
-        holes = saying.holes()
-        if not self._are_holes(holes):
-            raise BadSaying("the holes are not heads, and have kinds of the world")
-        for left, right in saying.givens() + [(saying.left(), saying.right())]:
-            if not self._is_equation(left, right, holes):
-                raise BadSaying("the two sides have one kind")
         made = self._grown()
         made._sayings[saying.name()] = saying
-        for hole in holes:
+        for hole in saying.holes():
             made._hole_names[hole] = True
+        made._parts.append(("saying", saying.name()))
         return made
 
     def kinds(self):
@@ -145,6 +157,14 @@ class World:
     def sayings(self):
         """Return a new dict from the names of the sayings to new Sayings."""
         return {name: _saying_again(saying) for name, saying in self._sayings.items()}
+
+    def heads(self):
+        """Return a new dict from the heads to pairs: what a head takes, and the kind that it gives."""
+        return dict(self._heads)
+
+    def parts(self):
+        """List pairs of "kind", "operator" or "saying" and a name, in the order in which they were added."""
+        return list(self._parts)
 
     def kind_of(self, term, holes):
         """Return the kind of the term with these kinds of its holes, or None."""

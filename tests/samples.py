@@ -42,6 +42,11 @@ NO_TERMS = [
 ]
 
 
+NO_NUMBERS = [
+    -1, 1000, True, False, None, "", "0", b"0", (), (0,), [], [0], {}, {0}, object(),
+]
+
+
 def numeral(count):
     """The term with `count` heads: zero, and `next` around it."""
     term = ZERO
@@ -63,3 +68,18 @@ def lists():
 def swap(name="swap"):
     """The saying that a + b = b + a."""
     return Saying(name, {"a": "nat", "b": "nat"}, [], of("add", A, B), of("add", B, A))
+
+
+def step(by, way="on", place=(), bindings=None, inner=()):
+    """A step of a showing."""
+    return (by, way, place, dict(bindings or {}), tuple(inner))
+
+
+def chain(*steps):
+    """A showing by these steps."""
+    return ("chain", steps)
+
+
+def bindings_that_are_none():
+    """What stands in the place of bindings, or of the cases of a showing, and is no dict."""
+    return [None, True, 0, "", "a", (), (("a", ZERO),), [], [("a", ZERO)], {"a"}, object()]

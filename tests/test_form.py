@@ -249,6 +249,16 @@ class EachFile(unittest.TestCase):
                 if isinstance(node, ast.Attribute):
                     self.assertTrue(node.attr in SPECIAL or "__" not in node.attr, name)
 
+    def test_no_local_name_is_that_of_an_import_or_a_class(self):
+        for name, _, tree in self.each():
+            taken = {alias.name for node in imports_of(tree) for alias in node.names}
+            taken |= {node.name for node in tree.body if isinstance(node, ast.ClassDef)}
+            for function in ast.walk(tree):
+                if isinstance(function, ast.FunctionDef):
+                    inside = {bound for part in function.body for bound in bound_names(part)}
+                    inside |= {part.arg for part in ast.walk(function.args) if isinstance(part, ast.arg)}
+                    self.assertEqual(inside & taken, set(), f"{name}: {function.name}")
+
     def test_barred_words(self):
         for name, text, _ in self.each():
             self.assertEqual(BARRED_WORDS & set(words_in_code(text)), set(), name)

@@ -1,0 +1,50 @@
+"""The names and arguments of the interface, as far as it is built."""
+
+import importlib
+import inspect
+import unittest
+
+FUNCTIONS = {
+    "worths": {"reckoned": "(world, term)", "worths": "(world, kind, size)", "tried": "(world, saying, *, size=3)"},
+    "judge": {"judged": "(world, saying, showing)"},
+    "wording": {
+        "term_text": "(term)", "read_term": "(world, text)", "world_text": "(world)", "read_world": "(text)",
+        "saying_text": "(saying)", "read_saying": "(world, text)",
+    },
+    "writing": {"showing_text": "(showing)", "read_showing": "(world, text)"},
+}
+CLASSES = {
+    "worlds": {"World": {
+        "__init__": "(self)", "with_kind": "(self, name, builders)", "with_operator": "(self, name, takes, gives, rows)",
+        "with_saying": "(self, saying)", "kinds": "(self)", "operators": "(self)", "sayings": "(self)",
+        "kind_of": "(self, term, holes)",
+    }},
+    "sayings": {"Saying": {
+        "__init__": "(self, name, holes, givens, left, right)", "name": "(self)", "holes": "(self)", "givens": "(self)",
+        "left": "(self)", "right": "(self)",
+    }},
+    "judge": {"Slip": {"__init__": "(self, where, why)"}},
+}
+
+
+class Interface(unittest.TestCase):
+    def test_functions(self):
+        for module, functions in FUNCTIONS.items():
+            for name, arguments in functions.items():
+                with self.subTest(module=module, name=name):
+                    found = getattr(importlib.import_module(f"showhouse.{module}"), name)
+                    self.assertEqual(found.__module__, f"showhouse.{module}")
+                    self.assertEqual(str(inspect.signature(found)), arguments)
+
+    def test_classes_have_their_methods_themselves(self):
+        for module, classes in CLASSES.items():
+            for name, methods in classes.items():
+                found = getattr(importlib.import_module(f"showhouse.{module}"), name)
+                self.assertEqual(found.__module__, f"showhouse.{module}")
+                for method, arguments in methods.items():
+                    with self.subTest(module=module, name=name, method=method):
+                        self.assertEqual(str(inspect.signature(vars(found)[method])), arguments)
+
+
+if __name__ == "__main__":
+    unittest.main()
