@@ -62,14 +62,23 @@ class Context:
         """Return the context with these pairs after all givens."""
         return Context(self.free, self.fixed, self.held, self.given_pairs + pairs, self.goal)
 
+    def kind_for(self, word, hole):
+        """Return the kind of a hole that can be gone `through` or `split`, or None."""
+        return (self.free if word == "through" else self.all_holes()).get(hole)
+
     def _again(self, hole, name, free):
         """Return the held entry for the new name of a case of an induction."""
         bindings = {hole: ("hole", name)}
         left, right = filled_pair(self.goal, bindings)
         return free, _filled_pairs(self.given_pairs, bindings), left, right
 
-    def in_through(self, hole, builder, names):
-        """Return the context of a case of an induction; `names` maps the new names to their kinds."""
+    def in_case(self, word, hole, builder, names):
+        """Return the context of a case of `through` or `split`; `names` maps the new names to their kinds."""
+        if word == "through":
+            return self._in_through(hole, builder, names)
+        return self._in_split(hole, builder, names)
+
+    def _in_through(self, hole, builder, names):
         free = _without(self.free, hole)
         more = [self._again(hole, name, free) for name, kind in names.items() if kind == self.free[hole]]
         bindings = {hole: _applied(builder, names)}
@@ -81,8 +90,7 @@ class Context:
             filled_pair(self.goal, bindings),
         )
 
-    def in_split(self, hole, builder, names):
-        """Return the context of a case of a case distinction; `names` maps the new names to their kinds."""
+    def _in_split(self, hole, builder, names):
         part = _applied(builder, names)
         return Context(
             _without(self.free, hole),

@@ -3,6 +3,7 @@
 from showhouse.contexts import context_of
 from showhouse.errors import BadSaying, BadShowing
 from showhouse.lore import Lore
+from showhouse.moves import is_new, never_fault, peel_fault, peeled, so_fault
 from showhouse.showings import is_showing
 from showhouse.steps import taken_step
 
@@ -33,13 +34,13 @@ def _are_new(lore, context, names, takes):
     return (
         len(names) == len(takes)
         and len(set(names)) == len(names)
-        and not any([lore.is_head(name) or context.knows_hole(name) for name in names])
+        and all([is_new(lore, context, name) for name in names])
     )
 
 
 def _by_cases(lore, context, showing, where):
     word, hole, cases = showing
-    kind = (context.free if word == "through" else context.all_holes()).get(hole)
+    kind = context.kind_for(word, hole)
     if kind is None:
         return Slip(where, "hole")
     builders = lore.builders_of(kind)
@@ -50,11 +51,7 @@ def _by_cases(lore, context, showing, where):
             return Slip([*where, ("case", builder)], "names")
     for builder, takes in builders.items():
         names, part = cases[builder]
-        kinds = dict(zip(names, takes))
-        if word == "through":
-            inside = context.in_through(hole, builder, kinds)
-        else:
-            inside = context.in_split(hole, builder, kinds)
+        inside = context.in_case(word, hole, builder, dict(zip(names, takes)))
         found = _entered(lore, inside, part, [*where, ("case", builder)])
         if found is not None:
             return found
@@ -63,31 +60,22 @@ def _by_cases(lore, context, showing, where):
 
 def _peel(lore, context, showing, where):
     _, number, part = showing
-    if number >= len(context.given_pairs):
-        return Slip(where, "given")
-    left, right = context.given_pairs[number]
-    builder = lore.builder_at(left)
-    if builder is None or builder != lore.builder_at(right):
-        return Slip(where, "builders")
-    inside = context.with_givens(list(zip(left[2], right[2])))
-    return _entered(lore, inside, part, [*where, ("peel", 0)])
+    fault = peel_fault(lore, context, number)
+    if fault is not None:
+        return Slip(where, fault)
+    return _entered(lore, peeled(context, number), part, [*where, ("peel", 0)])
 
 
 def _never(lore, context, showing, where):
-    number = showing[1]
-    if number >= len(context.given_pairs):
-        return Slip(where, "given")
-    builders = [lore.builder_at(side) for side in context.given_pairs[number]]
-    if None in builders or builders[0] == builders[1]:
-        return Slip(where, "builders")
-    return None
+    fault = never_fault(lore, context, showing[1])
+    return None if fault is None else Slip(where, fault)
 
 
 def _so(lore, context, showing, where):
     _, left, right, first, second = showing
-    kind = lore.kind(left, context.all_holes())
-    if kind is None or kind != lore.kind(right, context.all_holes()):
-        return Slip(where, "kinds")
+    fault = so_fault(lore, context, left, right)
+    if fault is not None:
+        return Slip(where, fault)
     found = _entered(lore, context.for_goal((left, right)), first, [*where, ("so", 0)])
     if found is not None:
         return found

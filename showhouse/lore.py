@@ -4,7 +4,7 @@ What a step goes by is a tuple of its holes with their kinds, its givens, and it
 """
 
 from showhouse.rows import row_holes
-from showhouse.terms import is_hole, term_kind
+from showhouse.terms import is_hole, is_name, term_kind
 
 
 def _by_number(things, number):
@@ -55,3 +55,25 @@ class Lore:
             return _by_number(held, by[1])
         pair = _by_number(given_pairs, by[1])
         return None if pair is None else ({}, [], pair[0], pair[1])
+
+    def rows_of(self, operator):
+        """List pairs of what a step by a row goes by and that row; none if this is no operator."""
+        return [(("row", operator, number), row) for number, row in enumerate(self._rows.get(operator, []))]
+
+    def are_names(self, names):
+        """Tell whether these are distinct names of operators and sayings."""
+        for name in names:
+            if not is_name(name) or name not in self._rows and name not in self._by_saying:
+                return False
+        return len(set(names)) == len(names)
+
+    def rules(self, names):
+        """List pairs of what a step goes by and its rule: rows of these operators, then sayings without givens."""
+        found = []
+        for operator in self._rows:
+            if operator in names:
+                found.extend(self.rows_of(operator))
+        for name, rule in self._by_saying.items():
+            if name in names and not rule[1]:
+                found.append((("saying", name), rule))
+        return found

@@ -7,7 +7,8 @@ MOST_NESTED = 12
 MOST_NUMBER = 999
 
 
-def _is_by(value):
+def is_by(value):
+    """Tell whether this is what a step goes by."""
     if not isinstance(value, tuple) or len(value) not in (2, 3):
         return False
     if len(value) == 3:
@@ -17,7 +18,8 @@ def _is_by(value):
     return value[0] in ("held", "given") and is_number(value[1], MOST_NUMBER)
 
 
-def _is_place(value):
+def is_place(value):
+    """Tell whether this is a tuple of numbers."""
     return isinstance(value, tuple) and all([is_number(at, MOST_NUMBER) for at in value])
 
 
@@ -31,9 +33,9 @@ def _is_step(value, depth):
         return False
     by, way, place, bindings, inner = value
     return (
-        _is_by(by)
+        is_by(by)
         and way in ("on", "back")
-        and _is_place(place)
+        and is_place(place)
         and _are_bindings(bindings)
         and isinstance(inner, tuple)
         and all([_is_showing_at(part, depth + 1) for part in inner])

@@ -12,6 +12,9 @@ FUNCTIONS = {
         "saying_text": "(saying)", "read_saying": "(world, text)",
     },
     "writing": {"showing_text": "(showing)", "read_showing": "(world, text)"},
+    "plain": {"plain": "(world, term, holes)", "fitting": "(world, names, term, holes)"},
+    "seeking": {"sought": "(world, names, left, right, holes, *, most=4)"},
+    "roads": {"run_road": "(world, saying, road)"},
 }
 CLASSES = {
     "worlds": {"World": {
@@ -24,6 +27,12 @@ CLASSES = {
         "left": "(self)", "right": "(self)",
     }},
     "judge": {"Slip": {"__init__": "(self, where, why)"}},
+    "seeking": {
+        "Answer": {},
+        "Found": {"__init__": "(self, path, rings)", "shows": "(self, world, names, left, right, holes, *, most=4)"},
+        "Lacking": {"__init__": "(self, rings)", "shows": "(self, world, names, left, right, holes, *, most=4)"},
+    },
+    "roads": {"Shown": {"__init__": "(self, made)"}, "Left": {"__init__": "(self, goals)"}},
 }
 
 

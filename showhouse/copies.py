@@ -1,0 +1,12 @@
+"""Copies, so that nobody changes from outside what somebody else keeps."""
+
+
+def copied(value):
+    """Return the value with new lists and dicts in it. Terms stay: they have none, and may be nested deeply."""
+    if isinstance(value, list):
+        return [copied(part) for part in value]
+    if isinstance(value, dict):
+        return {name: copied(part) for name, part in value.items()}
+    if isinstance(value, tuple) and value[:1] not in (("hole",), ("of",)):
+        return tuple([copied(part) for part in value])
+    return value
