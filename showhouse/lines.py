@@ -22,6 +22,14 @@ class Lines:
         """Tell whether a line is left that begins with this indent, or with a deeper one."""
         return self.are_left() and self._rows[self.at].startswith(indent)
 
+    def next_words(self):
+        """Return the words of the next line, or none if no line is left."""
+        return self._rows[self.at].split(" ") if self.are_left() else []
+
+    def next_is(self, line):
+        """Tell whether this is the next line."""
+        return self.are_left() and self._rows[self.at] == line
+
     def taken(self, indent):
         """Return the next line without this indent; raise BadText if there is no such line."""
         if not self.next_is_below(indent):

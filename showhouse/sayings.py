@@ -61,6 +61,10 @@ class Saying:
         """Return the right term."""
         return self._right
 
+    def again(self):
+        """Return a new saying that is equal to this one."""
+        return Saying(self._name, self._holes, self._givens, self._left, self._right)
+
     def __eq__(self, other):
         return (
             isinstance(other, Saying)

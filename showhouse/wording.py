@@ -155,39 +155,39 @@ def operator_from(line, lines, heads, row):
     return name, tuple(words[2:-2]), words[-1], rows
 
 
-def _with_kind(world, line, row):
+def _kind_part(world, line, row):
     name, builders = kind_from(line, row)
     try:
-        return world.with_kind(name, builders)
+        return ("kind", name, builders), world.with_kind(name, builders)
     except BadKind:
         raise BadText(row) from None
 
 
-def _with_operator(world, line, lines, row):
+def _operator_part(world, line, lines, row):
     name, takes, gives, rows = operator_from(line, lines, world.heads(), row)
     try:
-        return world.with_operator(name, takes, gives, rows)
+        return ("operator", name, takes, gives, rows), world.with_operator(name, takes, gives, rows)
     except BadOperator:
         raise BadText(row) from None
 
 
-def _with_saying(world, line, row):
+def _saying_part(world, line, row):
     saying = saying_from(line, world.heads(), row)
     try:
-        return world.with_saying(saying)
+        return ("say", saying), world.with_saying(saying)
     except BadSaying:
         raise BadText(row) from None
 
 
-def _with_next(world, lines):
-    """Return the world with the part that the next lines tell."""
+def next_part(world, lines):
+    """Return the kind, operator or saying that the next lines tell, and the world with it."""
     row = lines.at
     line = lines.taken("")
     if line.startswith("kind "):
-        return _with_kind(world, line, row)
+        return _kind_part(world, line, row)
     if line.startswith("make "):
-        return _with_operator(world, line, lines, row)
-    return _with_saying(world, line, row)
+        return _operator_part(world, line, lines, row)
+    return _saying_part(world, line, row)
 
 
 def world_text(world):
@@ -212,6 +212,6 @@ def read_world(text):
     lines = Lines(text)
     world = World()
     while lines.are_left():
-        world = _with_next(world, lines)
+        _, world = next_part(world, lines)
     lines.finish()
     return world

@@ -36,10 +36,6 @@ def _check_builders(name, builders, kinds):
         raise BadKind("at least one builder takes only earlier kinds")
 
 
-def _saying_again(saying):
-    return Saying(saying.name(), saying.holes(), saying.givens(), saying.left(), saying.right())
-
-
 class World:
     """A world is never modified: what it takes up belongs to a new world."""
 
@@ -54,7 +50,8 @@ class World:
         # Pairs of a word and a name; the dicts do not tell how kinds, operators and sayings alternate.
         self._parts = []
 
-    def _grown(self):
+    def again(self):
+        """Return a new world that is equal to this one."""
         made = World()
         made._kinds = dict(self._kinds)
         made._operators = dict(self._operators)
@@ -93,7 +90,7 @@ class World:
         _check_builders(name, builders, self._kinds)
         if not self._may_be_heads([builder for builder, takes in builders]):
             raise BadKind("the builders have new names, and there are at most 40 heads")
-        made = self._grown()
+        made = self.again()
         made._kinds[name] = tuple(builders)
         for builder, takes in builders:
             made._heads[builder] = (takes, name)
@@ -109,7 +106,7 @@ class World:
         if not all([self._is_kind(kind) for kind in takes]) or not self._is_kind(gives):
             raise BadOperator("an operator takes and gives kinds of the world")
         check_rows(name, takes, gives, rows, self._kinds, self._heads)
-        made = self._grown()
+        made = self.again()
         made._operators[name] = (takes, gives, tuple(rows))
         made._heads[name] = (takes, gives)
         for left, right in rows:
@@ -136,7 +133,7 @@ class World:
             raise BadSaying("a saying has a new name")
         if len(self._sayings) == MOST_SAYINGS:
             raise BadSaying("a world has at most 40 sayings")
-        made = self._grown()
+        made = self.again()
         made._sayings[saying.name()] = saying
         for hole in saying.holes():
             made._hole_names[hole] = True
@@ -156,7 +153,7 @@ class World:
 
     def sayings(self):
         """Return a new dict from the names of the sayings to new Sayings."""
-        return {name: _saying_again(saying) for name, saying in self._sayings.items()}
+        return {name: saying.again() for name, saying in self._sayings.items()}
 
     def heads(self):
         """Return a new dict from the heads to pairs: what a head takes, and the kind that it gives."""

@@ -7,7 +7,8 @@ from showhouse.terms import is_name
 from showhouse.wording import INDENT, pair_from, term_from, written_pair, written_term
 
 
-def _indented(rows):
+def indented(rows):
+    """Return the lines one level deeper."""
     return [INDENT + row for row in rows]
 
 
@@ -23,12 +24,12 @@ def _step_lines(step):
     by, way, place, bindings, inner = step
     found = [_step_line(by, way, place, bindings)]
     for part in inner:
-        found.extend(_indented(showing_lines(part)))
+        found.extend(indented(showing_lines(part)))
     return found
 
 
 def _case_lines(builder, names, part):
-    return [" ".join(["case", builder, *names])] + _indented(showing_lines(part))
+    return [" ".join(["case", builder, *names])] + indented(showing_lines(part))
 
 
 def showing_lines(showing):
@@ -50,7 +51,7 @@ def showing_lines(showing):
         first = f"{word} {about}"
         for part in showing[2:]:
             rows.extend(showing_lines(part))
-    return [first] + _indented(rows)
+    return [first] + indented(rows)
 
 
 def showing_text(showing):

@@ -1,4 +1,4 @@
-"""The names and arguments of the interface, as far as it is built."""
+"""The names and arguments of the interface."""
 
 import importlib
 import inspect
@@ -15,6 +15,8 @@ FUNCTIONS = {
     "plain": {"plain": "(world, term, holes)", "fitting": "(world, names, term, holes)"},
     "seeking": {"sought": "(world, names, left, right, holes, *, most=4)"},
     "roads": {"run_road": "(world, saying, road)"},
+    "leading": {"likeness": "(one, other)", "led": "(book, there, names)"},
+    "export": {"book_text": "(book)", "read_book": "(text)"},
 }
 CLASSES = {
     "worlds": {"World": {
@@ -33,6 +35,17 @@ CLASSES = {
         "Lacking": {"__init__": "(self, rings)", "shows": "(self, world, names, left, right, holes, *, most=4)"},
     },
     "roads": {"Shown": {"__init__": "(self, made)"}, "Left": {"__init__": "(self, goals)"}},
+    "books": {"Book": {
+        "__init__": "(self, entries)", "entries": "(self)", "whole": "(self)", "states": "(self)",
+        "showing": "(self, name)", "slip": "(self, name)", "left": "(self, name)", "leant": "(self, name)",
+        "borne": "(self, name)",
+    }},
+    "leading": {"Led": {"__init__": "(self, there, by_names)"}, "Lame": {"__init__": "(self, called)"}},
+    "house": {"House": {
+        "__init__": "(self, book)", "put": "(self, entry, *, at=None, heard=None)", "take": "(self, name, *, heard=None)",
+        "change": "(self, name, entry, *, heard=None)", "together": "(self, deeds, *, heard=None)",
+        "undo": "(self, *, heard=None)", "book": "(self)", "editions": "(self)", "log": "(self)", "deeds": "(self)",
+    }},
 }
 
 
