@@ -23,8 +23,8 @@ class Lines:
         return self.are_left() and self._rows[self.at].startswith(indent)
 
     def next_words(self):
-        """Return the words of the next line, or none if no line is left."""
-        return self._rows[self.at].split(" ") if self.are_left() else []
+        """Return the words of the next line, which is left."""
+        return self._rows[self.at].split(" ")
 
     def next_is(self, line):
         """Tell whether this is the next line."""

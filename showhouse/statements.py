@@ -15,8 +15,6 @@ def inner_showings(showing):
         return [part for step in showing[1] for part in step[4]]
     if word in ("through", "split"):
         return [part for _, part in showing[2].values()]
-    if word == "never":
-        return []
     return list(showing[2:]) if word == "peel" else list(showing[3:])
 
 

@@ -215,6 +215,8 @@ class Copies(unittest.TestCase):
 
     def test_what_else_is_told(self):
         book = Book(self.entries())
+        self.assertIsNot(book.entries()[2][1], book.entries()[2][1])
+        self.assertIsNot(book.whole(), book.whole())
         book.showing("base")[2].clear()
         book.showing("shift")[2].clear()
         self.assertEqual(book.showing("base"), add_zero())

@@ -48,6 +48,18 @@ STATEMENTS = (
     ast.FunctionDef, ast.ClassDef, ast.ImportFrom,
 )
 CAUGHT_FREELY = {"KeyError", "ZeroDivisionError", "StopIteration"}
+VIEWS = {"zip", "enumerate", "reversed", "range", "items", "keys", "values"}
+GO_OVER = {"list", "tuple", "dict", "sorted", "sum", "min", "max", "any", "all", "enumerate", "zip", "reversed", "len"}
+BARRED_ATTRIBUTES = set(
+    "items keys values pop update append clear extend insert remove reverse setdefault sort args encode decode hex "
+    "fromhex format format_map mro".split()
+)
+# What the interface lists, and nothing in the package needs.
+OFFERED = set(
+    "tried reckoned worths kind_of term_text read_term world_text read_world read_saying showing_text read_showing "
+    "plain fitting sought shows likeness led book_text read_book House put take change together undo editions log "
+    "deeds slip leant borne whole states HouseError".split()
+)
 KEYWORDS = {
     "sorted": {"key", "reverse"}, "min": {"key", "default"}, "max": {"key", "default"}, "sum": {"start"},
     "enumerate": {"start"}, "zip": {"strict"},
@@ -292,6 +304,44 @@ class EachFile(unittest.TestCase):
             if node.exc is not None:
                 self.assertIsInstance(node.exc, ast.Call, where)
                 self.assertIn(ast.unparse(node.exc.func), own, where)
+
+    def test_views_are_iterated_at_once(self):
+        for name, _, tree in self.each():
+            at_once = set()
+            for node in ast.walk(tree):
+                if isinstance(node, (ast.For, ast.comprehension)):
+                    at_once.add(node.iter)
+                elif isinstance(node, ast.Call) and isinstance(node.func, ast.Name) and node.func.id in GO_OVER:
+                    at_once.update(node.args)
+            for node in ast.walk(tree):
+                if isinstance(node, ast.Call):
+                    word = node.func.id if isinstance(node.func, ast.Name) else getattr(node.func, "attr", None)
+                    if word in VIEWS:
+                        self.assertIn(node, at_once, f"{name}:{node.lineno}")
+
+    def test_names_of_classes_and_attributes(self):
+        for where, node in self.nodes(ast.ClassDef):
+            self.assertRegex(node.name, r"\A[A-Z][A-Za-z]*\Z", where)
+            methods = {part.name for part in node.body if isinstance(part, ast.FunctionDef)}
+            stored = {
+                part.attr for part in ast.walk(node) if isinstance(part, ast.Attribute) and isinstance(part.ctx, ast.Store)
+            }
+            self.assertEqual(stored & (methods | BARRED_ATTRIBUTES), set(), where)
+
+    def test_what_is_imported_or_defined_is_used(self):
+        words = [word for _, text, _ in self.each() for word in words_in_code(text)]
+        for name, text, tree in self.each():
+            for node in imports_of(tree):
+                for alias in node.names:
+                    self.assertGreater(list(words_in_code(text)).count(alias.name), 1, name)
+            for node in ast.walk(tree):
+                if isinstance(node, (ast.FunctionDef, ast.ClassDef)) and node.name not in SPECIAL | OFFERED:
+                    self.assertGreater(words.count(node.name), 1, f"{name}: {node.name}")
+
+    def test_what_ends_a_try_is_simple(self):
+        for where, node in self.nodes(ast.Try):
+            for statement in node.finalbody:
+                self.assertRegex(ast.unparse(statement), r"\A(\w+\.)?\w+ = [\w.]+\Z|\A[\w.]+\.append\([\w.,()' ]+\)\Z", where)
 
     def test_sets_are_not_iterated(self):
         for where, node in self.nodes(ast.For, ast.comprehension):

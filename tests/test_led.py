@@ -219,6 +219,7 @@ class Known(Leading):
             say("other", {"b": "num", "a": "num"}, [], A, A, chain()), say("other", {"a": "num"}, [], A, A, chain()),
             say("other", {"a": "num", "b": "num"}, [(A, A)], A, A, chain()), say("other", {"x": "num", "b": "num"}, [], X, X, chain()),
             say("other", {"a": "num", "b": "num"}, [], A, B, chain()), say("other", {"a": "num", "b": "num"}, [], B, B, chain()),
+            say("other", {"a": "num", "b": "num"}, [], B, A, chain()), say("other", {"a": "num", "b": "num"}, [], A, NULL, chain()),
         ):
             if other[1].holes().get("x"):
                 there = [NUM, other]
@@ -351,6 +352,25 @@ class Refusals(Leading):
         self.refused(({"nat": "num"}, {**heads, "one": "one", "two": "one"}), [KIND, *two], there)
         names = ({"nat": "num"}, {**heads, "one": "two", "two": "one"})
         self.assertIsInstance(led(Book([KIND, *two]), Book(there), names), Led)
+
+    def test_operators_that_go_by_others(self):
+        def constants(kind, term, *names):
+            return [("operator", name, (), kind, [(of(name), term)]) for name in names]
+
+        entries = [KIND, *constants("nat", ZERO, "one", "two"), *constants("nat", after(of("one")), "three")]
+        there = [NUM, *constants("num", NULL, "one", "two"), *constants("num", succ(of("one")), "three")]
+        heads = {"zero": "null", "next": "succ", "three": "three"}
+        self.assertIsInstance(led(Book(entries), Book(there), ({"nat": "num"}, {**heads, "one": "one", "two": "two"})), Led)
+        self.refused(({"nat": "num"}, {**heads, "one": "two", "two": "one"}), entries, there)
+
+    def test_kinds_that_go_by_others(self):
+        def kinds(last):
+            return [("kind", "f", [("aa", ())]), ("kind", "g", [("bb", ())]), ("kind", "h", [("cc", (last,))])]
+
+        heads = {"aa": "bb", "bb": "aa", "cc": "cc"}
+        names = ({"f": "g", "g": "f", "h": "h"}, heads)
+        self.assertIsInstance(led(Book(kinds("f")), Book(kinds("g")), names), Led)
+        self.refused(names, kinds("f"), kinds("f"))
 
     def test_only_good_entries_have_parts(self):
         self.refused(NAMES, there=[PLUS, NUM])

@@ -258,6 +258,28 @@ class First(unittest.TestCase):
         self.assertIsNone(likeness(one, other))
         self.assertIsNone(likeness(other, one))
 
+    def rings(self, *sizes):
+        """The world with rings of so many constants, each of which is used beside the next one."""
+        world = numbers()
+        names = [["c" + letter + other for other in "abcdef"[:size]] for letter, size in zip("abc", sizes)]
+        for ring in names:
+            world = constant(world, *ring)
+        for ring in names:
+            for name, following in zip(ring, ring[1:] + ring[:1]):
+                edge = "e" + name[1:]
+                world = world.with_operator(edge, (), "nat", [(of(edge), add(of(name), of(following)))])
+        return world
+
+    def test_where_each_step_seems_possible(self):
+        found = likeness(self.rings(3), self.rings(6, 3))[1]
+        self.assertEqual([found["ca" + letter] for letter in "abc"], ["cba", "cbb", "cbc"])
+        self.assertEqual([found["ea" + letter] for letter in "abc"], ["eba", "ebb", "ebc"])
+        self.assertIsNone(likeness(self.rings(3), self.rings(6, 4)))
+        self.assertIsNone(likeness(self.rings(3, 3, 3), self.rings(6, 3)))
+        self.assertIsNone(likeness(self.rings(6, 3), self.rings(3, 3, 3)))
+        found = likeness(self.rings(3, 6), self.rings(6, 3))[1]
+        self.assertEqual([found["c" + name] for name in ("aa", "ab", "ba", "bf")], ["cba", "cbb", "caa", "caf"])
+
     def test_by_hand(self):
         worlds = []
         for uses in (("aa", "bb"), ("bb", "aa"), ("cc", "aa"), ("aa", "aa"), ("cc", "cc")):

@@ -180,6 +180,8 @@ class Leaning(unittest.TestCase):
         # A step by a row of an operator is no step by a saying, whatever its name.
         entry = say("other", NAT_A, [], add(ZERO, A), A, chain(row("add", 0, b=A)))
         self.assertEqual(Book([*FIRST, base(), entry]).leant("other"), [])
+        bad = say("other", NAT_A, [], add(ZERO, A), A, chain(row("base", 0, b=A), held(0), given(0)))
+        self.assertEqual(Book([*FIRST, base(), bad]).leant("other"), [])
         self.assertEqual(told(Book([*FIRST, entry]))["other"][3:], ([], []))
         self.assertEqual((KIND, ADD, C), (FIRST[0], FIRST[1], ("hole", "c")))
 
