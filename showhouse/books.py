@@ -85,25 +85,30 @@ class Book:
             if entry[0] == "say":
                 self._good_sayings[entry_name(entry)] = at
 
+    def _with_lower(self, said):
+        """List these sayings and those on which they lean, in the order of the book."""
+        found = set(said)
+        for other in said:
+            for lower in self._leant[other]:
+                found.add(lower)
+        return [other for other in self._leant if other in found]
+
+    def _state(self, name, said):
+        """Return the state of a good saying whose showing goes by these."""
+        if self._verdicts[name].fault is not None:
+            return "slip"
+        if self._verdicts[name].goals:
+            return "left"
+        return "holds" if all([self._states[other] == "holds" for other in said]) else "leans"
+
     def _find_states(self):
         """Find the state of each good saying, and on which sayings it leans."""
         self._states = {}
         self._leant = {}
         for name in self._good_sayings:
             said = [other for other in said_names(self._showing(name)) if other in self._states]
-            below = set(said)
-            for other in said:
-                for lower in self._leant[other]:
-                    below.add(lower)
-            self._leant[name] = [other for other in self._states if other in below]
-            verdict = self._verdicts[name]
-            if verdict.fault is not None:
-                self._states[name] = "slip"
-            elif verdict.goals:
-                self._states[name] = "left"
-            else:
-                are_held = all([self._states[other] == "holds" for other in said])
-                self._states[name] = "holds" if are_held else "leans"
+            self._leant[name] = self._with_lower(said)
+            self._states[name] = self._state(name, said)
 
     def _entry(self, name):
         return self._entries[self._good_sayings[name]]
